@@ -78,3 +78,55 @@ def ring_webs(many):
 def spread_rows(many, size):
     rows = list(permutations(range(many), size))
     return [rows[number] for number in spread(len(rows), 20)]
+
+
+def counted_lead(voters, one, other):
+    total = 0
+    for voter in voters:
+        places = {thing: place for place, thing in enumerate(voter)}
+        total += 1 if places[one] < places[other] else -1
+    return total
+
+
+def counted_web(many, voters):
+    """All beats, rising."""
+    return [beat for beat in permutations(range(many), 2) if counted_lead(voters, *beat) > 0]
+
+
+def faulty_voters(many):
+    """Rows that are no order: a thing twice, one left out, one too many, one that isn't there."""
+    good = tuple(range(many))
+    rows = [(), good[:-1], good[1:], good + (many,), good + (0,), good + (many - 1,), good + good]
+    rows += [good[:-1] + (wrong,) for wrong in (many, many + 1, -1, -many, 10 ** 30, 10 ** 5000)]
+    rows += [(wrong,) + good[1:] for wrong in (many, -1)]
+    if many > 1:
+        rows += [(0,) + good[:-1], good[:-1] + (0,), tuple(thing + 1 for thing in good), (0,) * many]
+    return [row for row in rows if sorted(row) != list(good)]
+
+
+def is_ring(web, row):
+    return all(beat in web for beat in zip(row, row[1:] + row[:1]))
+
+
+def is_kept(web, order):
+    places = {thing: place for place, thing in enumerate(order)}
+    return all(places[one] < places[other] for one, other in web)
+
+
+def good_webs(many):
+    """The empty web, some of a few beats, and some in which each two things have a beat."""
+    total = len(pairs(many))
+    numbers = (0, 3 ** total // 2, 3 ** total // 3, 3 ** total - 1)
+    return [web_by_number(many, number) for number in numbers] + [full_web_by_number(many, 2 ** total // 3)]
+
+
+def faulty_webs(many):
+    """Webs with a thing that isn't there, a thing and itself, a beat twice or both ways round."""
+    made = []
+    for web in good_webs(many):
+        wrong = [(0, many), (many, 0), (-1, 0), (0, -1), (many, many + 1), (0, 10 ** 30), (10 ** 5000, 0)]
+        wrong += [(0, 0), (many - 1, many - 1)]
+        wrong += web[:1] + web[-1:] + [(other, one) for one, other in web[:1] + web[-1:]]
+        for beat in wrong:
+            made += [web + [beat], [beat] + web]
+    return made

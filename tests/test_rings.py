@@ -3,11 +3,7 @@ from itertools import permutations
 
 from beatmakers.errors import BadCount, BadWeb
 from beatmakers.rings import keeps, ordered, ring
-from helper import BAD_COUNTS, COUNTS, full_web_by_number, orders, pairs, ring_webs, web_by_number, webs
-
-
-def is_ring(web, row):
-    return all(beat in web for beat in zip(row, row[1:] + row[:1]))
+from helper import BAD_COUNTS, COUNTS, good_webs, is_kept, is_ring, orders, pairs, ring_webs, webs
 
 
 def fewest_in_a_ring(many, web):
@@ -17,11 +13,6 @@ def fewest_in_a_ring(many, web):
         if any(is_ring(beats, row) for row in permutations(range(many), size)):
             return size
     return None
-
-
-def is_kept(web, order):
-    places = {thing: place for place, thing in enumerate(order)}
-    return all(places[one] < places[other] for one, other in web)
 
 
 def first_order(many, web):
@@ -168,13 +159,6 @@ class KeepsTest(unittest.TestCase):
                 order = ordered(many, web)
                 if order is not None:
                     self.assertIs(keeps(many, web, order), True)
-
-
-def good_webs(many):
-    """The empty web, some of a few beats, and some in which each two things have a beat."""
-    total = len(pairs(many))
-    numbers = (0, 3 ** total // 2, 3 ** total // 3, 3 ** total - 1)
-    return [web_by_number(many, number) for number in numbers] + [full_web_by_number(many, 2 ** total // 3)]
 
 
 def places(web):

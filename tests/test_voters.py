@@ -4,17 +4,9 @@ from itertools import permutations
 
 from beatmakers.errors import BadCount, BadVoter
 from beatmakers.voters import lead, web_of
-from helper import BAD_COUNTS, COUNTS, orders, some_voters
+from helper import BAD_COUNTS, COUNTS, counted_lead, faulty_voters, orders, some_voters
 
 SIZES = (0, 1, 2, 3, 4, 5, 7, 10, 59, 60)
-
-
-def counted_lead(voters, one, other):
-    total = 0
-    for voter in voters:
-        places = {thing: place for place, thing in enumerate(voter)}
-        total += 1 if places[one] < places[other] else -1
-    return total
 
 
 def spread_voters():
@@ -22,17 +14,6 @@ def spread_voters():
         for size in SIZES:
             for step in (0, 1, 7, 101):
                 yield many, some_voters(many, size, step)
-
-
-def faulty_voters(many):
-    """Rows that are no order: a thing twice, one left out, one too many, one that isn't there."""
-    good = tuple(range(many))
-    rows = [(), good[:-1], good[1:], good + (many,), good + (0,), good + (many - 1,), good + good]
-    rows += [good[:-1] + (wrong,) for wrong in (many, many + 1, -1, -many, 10 ** 30, 10 ** 5000)]
-    rows += [(wrong,) + good[1:] for wrong in (many, -1)]
-    if many > 1:
-        rows += [(0,) + good[:-1], good[:-1] + (0,), tuple(thing + 1 for thing in good), (0,) * many]
-    return [row for row in rows if sorted(row) != list(good)]
 
 
 class LeadTest(unittest.TestCase):
